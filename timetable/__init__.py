@@ -1,0 +1,1 @@
+"""Trips by a timetable: see timetable.offices."""
