@@ -2,7 +2,7 @@
 
 import unittest
 
-from tests.helper import EXAMPLE, ask, earliest, last, latest, post, row, table, time
+from tests.helper import EXAMPLE, ask, booked, earliest, last, late, latest, post, row, table, time
 
 A, B, C = 0, 1, 2
 
@@ -23,6 +23,9 @@ class Examples(unittest.TestCase):
         things = [table(EXAMPLE), post(1, amount=4, rank=0), post(2, amount=4, rank=1)]
         self.assertEqual(ask(*things)[1:], [[0, 480], [0, 480]])
         self.assertEqual(ask(*things, time(361), time(1800), time(1801), time(20000))[3:], [[1], [0], [1], [0]])
+        self.assertEqual(ask(*things, booked(1), booked(2), late(1), late(2))[3:], [
+            [0, 0, 480] + row([7, 0, 0, 2, 360, 480]), [0, 0, 1920] + row([7, 1, 0, 2, 1800, 1920]), [0, 0], [0, 1440],
+        ])
 
 
 if __name__ == "__main__":

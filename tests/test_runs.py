@@ -2,11 +2,9 @@
 
 import unittest
 
-from tests.helper import CLEAR, EXAMPLE, ask, cancel, delay, earliest, last, latest, looks, row, table, time
+from tests.helper import CLEAR, EXAMPLE, FAR, FOUR, NO_RUNS, SOME_DAYS, ask, cancel, delay, earliest, last, latest, looks, row, table, time
 
 A, B, C, D = 0, 1, 2, 3
-FAR = 1000000000000000000
-FOUR = "MIN B 1 / MIN C 2 / MIN D 4 / TRIP 7 CAP 5 5 CUT 15 / A - 0600 / B 0700 0710 / C 0800 0810 / D 0900 -"
 
 
 def ride_days(lines, *calls):
@@ -112,12 +110,11 @@ class Cancel(unittest.TestCase):
         self.assertEqual(ask(table(EXAMPLE), cancel(7, 0), cancel(7, 13), cancel(7, 5))[1:], [[1], [2], [3]])
 
     def test_no_such_run(self):
-        lines = "TRIP 7 D=135 V=2-9 CAP 1 1 CUT 0 / A - 0600 / B 0700 -"
-        for trip, day in ((8, 3), (-7, 3), (0, 3), (FAR, 3), (-FAR, 3), (7, 0), (7, 1), (7, 4), (7, 10), (7, -1), (7, 14), (7, FAR), (7, -FAR), (7, -4)):
-            self.assertEqual(last(table(lines), cancel(trip, day)), [-5], (trip, day))
-            self.assertEqual(last(table(lines), delay(trip, day, 0, 1)), [-5], (trip, day))
+        for trip, day in NO_RUNS:
+            self.assertEqual(last(table(SOME_DAYS), cancel(trip, day)), [-5], (trip, day))
+            self.assertEqual(last(table(SOME_DAYS), delay(trip, day, 0, 1)), [-5], (trip, day))
         for day in (3, 5, 8):
-            self.assertEqual(last(table(lines), cancel(7, day)), [1])
+            self.assertEqual(last(table(SOME_DAYS), cancel(7, day)), [1])
 
     def test_no_timetable(self):
         self.assertEqual(ask(cancel(7, 0), delay(7, 0, 0, 1)), [[-5], [-5]])

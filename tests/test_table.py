@@ -267,7 +267,9 @@ class Refused(unittest.TestCase):
         for wrong in (table("MIN A 5 / what"), table("MIN A 5 / TRIP 1 CAP 1 1 CUT 0"), table_of([256]), table_of(text("MIN C 5") + [-1])):
             self.assertEqual(ask(*before, wrong, *looks())[len(before) + 1:], plain)
         posted = before + [post(1, t=3)]
-        self.assertEqual(ask(*posted, table("MIN A 5"), *looks())[len(posted) + 1:], plain)
+        plain = ask(*posted, *looks())[len(posted):]
+        for wrong in (table("MIN A 5"), table("what"), table_of([256])):
+            self.assertEqual(ask(*posted, wrong, *looks())[len(posted) + 1:], plain)
 
 
 class Taken(unittest.TestCase):

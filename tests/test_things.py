@@ -2,13 +2,9 @@
 
 import unittest
 
-from tests.helper import CLEAR, EXAMPLE, ask, cancel, delay, earliest, last, looks, post, table, table_of, time
+from tests.helper import CLEAR, EXAMPLE, FAR, NARROW, ask, cancel, delay, earliest, last, looks, post, table, table_of, time
 
 A, B, C, D = 0, 1, 2, 3
-FAR = 1000000000000000000
-
-# To C one rides on: who is booked ahead by the trip 1 begins two rides a day if bound for C, one if bound for B.
-NARROW = "TRIP 1 CAP 5 5 CUT 0 / A - 0600 / B 0700 - / TRIP 2 CAP 99 99 CUT 0 / B - 0800 / C 0900 -"
 
 # The trip 2 comes first but goes last.
 SLOW_AND_FAST = "TRIP 1 CAP 5 5 CUT 0 / A - 0600 / C 2000 - / TRIP 2 V=0-0 CAP 5 5 CUT 0 / A - 0700 / C 0800 -"
@@ -167,7 +163,7 @@ class Room(unittest.TestCase):
 
 
 class Order(unittest.TestCase):
-    """On day 0 two rides are begun if the thing for C is booked ahead of that for B, and one if not."""
+    """Of two things that don't both fit into the trip 1: two rides are begun on day 0 if that for C is booked ahead, one if that for B."""
 
     def begun(self, for_b, for_c):
         told = [last(table(NARROW), first, second, time(1440)) for first, second in ((for_b, for_c), (for_c, for_b))]

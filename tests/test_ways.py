@@ -2,10 +2,9 @@
 
 import unittest
 
-from tests.helper import CLEAR, EXAMPLE, ask, bests, cancel, delay, earliest, last, latest, looks, post, row, table, time
+from tests.helper import CLEAR, EXAMPLE, FAR, ask, bests, cancel, delay, earliest, last, latest, looks, post, row, table, time
 
 A, B, C, D, E, F = range(6)
-FAR = 1000000000000000000
 
 # One ride goes straight but slowly; each further change is earlier.
 CHANGES = " / ".join([
@@ -143,6 +142,13 @@ class Latest(unittest.TestCase):
         self.assertEqual(last(table(CHAIN), latest(B, F, 270)), [0, 60])
         self.assertEqual(last(table(CHAIN), latest(A, F, 269)), [-8])
         self.assertEqual(last(table(CHANGES), latest(A, D, 2640)), [0, 1500])
+
+    def test_the_greatest_whatever_the_order(self):
+        two = ["TRIP 1 CAP 1 1 CUT 0 / A - 0600 / B 0700 -", "TRIP 2 CAP 1 1 CUT 0 / A - 0500 / B 0530 -"]
+        for lines in (" / ".join(two), " / ".join(two[::-1])):
+            self.assertEqual(last(table(lines), latest(A, B, 420)), [0, 360])
+            self.assertEqual(last(table(lines), latest(A, B, 419)), [0, 300])
+            self.assertEqual(last(table(lines), delay(2, 0, 0, 61), latest(A, B, 420)), [0, 361])
 
     def test_below_0(self):
         lines = "TRIP 7 V=0-0 CAP 1 1 CUT 999 / A - 0000 / B 0001 0002 / C 0003 -"

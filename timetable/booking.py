@@ -34,6 +34,19 @@ def book_all(state):
     return booked
 
 
+def rides_by_things(state):
+    """Each thing, in their order, with its rides, begun and booked."""
+    booked = book_all(state)
+    found = []
+    for thing in things_in_order(state):
+        rides = begun_rides(state, thing)
+        way = booked[thing.number]
+        if way is not None:
+            rides = rides + way.rides
+        found.append((thing, rides))
+    return found
+
+
 def way_onward(state, thing, rides):
     """The earliest from where the thing stands to its goal; None if there's no way."""
     if len(thing.begun) == 0:

@@ -4,21 +4,25 @@ A refusal is one number below 0. Each call looks at its refusals in the order in
 and changes the state only behind the last of them.
 """
 
-from timetable.booking import begin_rides
+from timetable.booking import begin_rides, begun_rides, book_all, rides_by_things, things_in_order
 from timetable.reading import NO_FAULT, is_text, read_table
-from timetable.runs import all_rides, find_run, rides_to_go, tell_ride
+from timetable.runs import all_rides, does_run, find_run, rides_to_go, tell_rides
 from timetable.showing import show_table
-from timetable.state import Thing
+from timetable.state import NO_PROMISE, Thing
+from timetable.tables import LAST_DAY
 from timetable.ways import best_ways, earliest_way, latest_ready
 
 OUT_OF_RANGE = -1
 NO_TEXT = -2
 TOO_MANY = -3
 NUMBER_TAKEN = -4
+NO_THING = -4
 NO_RUN = -5
 HAS_GONE = -6
 TIME_BEFORE = -7
 NO_WAY = -8
+NO_LATENESS = -8
+HAS_BEGUN = -9
 HAS_THINGS = -10
 
 TIME_MOST = 100000
@@ -34,9 +38,22 @@ def is_time(number):
     return 0 <= number <= TIME_MOST
 
 
-def with_row(first, row):
-    """An answer of a number and a row, which has its length ahead."""
-    return [first, len(row)] + row
+def goes_from(run, stop):
+    """Whether this is a stop from which the run goes on to another: any but the last."""
+    return 0 <= stop < len(run.trip.stops) - 1
+
+
+def find_thing(state, number):
+    """The thing with this number; None if there's none."""
+    for thing in state.things:
+        if thing.number == number:
+            return thing
+    return None
+
+
+def with_row(numbers, row):
+    """An answer of some numbers and a row, which has its length ahead."""
+    return numbers + [len(row)] + row
 
 
 def call_clear(state, numbers):
@@ -57,7 +74,7 @@ def call_table(state, text):
 
 
 def call_show(state, numbers):
-    return with_row(len(state.table.trips), show_table(state.table))
+    return with_row([len(state.table.trips)], show_table(state.table))
 
 
 def call_cancel(state, numbers):
@@ -76,8 +93,7 @@ def call_delay(state, numbers):
     run = find_run(state, numbers[0], numbers[1])
     if run is None:
         return [NO_RUN]
-    last = len(run.trip.stops) - 1
-    if stop < 0 or stop >= last or minutes < 1 or minutes > 1000:
+    if not (goes_from(run, stop) and 1 <= minutes <= 1000):
         return [OUT_OF_RANGE]
     if run.goes[stop] < state.now:
         return [HAS_GONE]
@@ -113,17 +129,14 @@ def call_earliest(state, numbers):
     way = earliest_way(all_rides(state), numbers[0], numbers[1], numbers[2])
     if way is None:
         return [NO_WAY]
-    row = []
-    for ride in way.rides:
-        row.extend(tell_ride(ride))
-    return with_row(way.ready, row)
+    return with_row([way.ready], tell_rides(way.rides))
 
 
 def call_bests(state, numbers):
     if not (is_office(numbers[0]) and is_time(numbers[1]) and is_office(numbers[2])):
         return [OUT_OF_RANGE]
     row = best_ways(all_rides(state), numbers[0], numbers[1], numbers[2])
-    return with_row(len(row) // 2, row)
+    return with_row([len(row) // 2], row)
 
 
 def call_latest(state, numbers):
@@ -139,7 +152,7 @@ def call_post(state, numbers):
     if not is_thing(numbers):
         return [OUT_OF_RANGE]
     thing = Thing(numbers[0], numbers[1], numbers[2], numbers[3], numbers[4], numbers[5], numbers[6])
-    if thing.number in [other.number for other in state.things]:
+    if find_thing(state, thing.number) is not None:
         return [NUMBER_TAKEN]
     if len(state.things) == THINGS_MOST:
         return [TOO_MANY]
@@ -161,6 +174,91 @@ def is_thing(numbers):
     return 0 <= numbers[5] <= 9 and is_time(numbers[6])
 
 
+def call_withdraw(state, numbers):
+    thing = find_thing(state, numbers[0])
+    if thing is None:
+        return [NO_THING]
+    if len(thing.begun) > 0:
+        return [HAS_BEGUN]
+    state.things = [other for other in state.things if other.number != thing.number]
+    return [len(state.things)]
+
+
+def call_booked(state, numbers):
+    thing = find_thing(state, numbers[0])
+    if thing is None:
+        return [NO_THING]
+    begun = begun_rides(state, thing)
+    way = book_all(state)[thing.number]
+    if way is None:
+        return with_row([1, len(begun)], tell_rides(begun))
+    return with_row([0, len(begun), way.ready], tell_rides(begun + way.rides))
+
+
+def call_used(state, numbers):
+    stop = numbers[2]
+    run = find_run(state, numbers[0], numbers[1])
+    if run is None:
+        return [NO_RUN]
+    if not goes_from(run, stop):
+        return [OUT_OF_RANGE]
+    amounts = [0, 0]
+    for thing, rides in rides_by_things(state):
+        for ride in rides:
+            if ride.run.key == run.key and ride.first <= stop < ride.later:
+                amounts[thing.kind] = amounts[thing.kind] + thing.amount
+    return amounts + run.trip.rooms
+
+
+def call_run(state, numbers):
+    run = find_run(state, numbers[0], numbers[1])
+    if run is None:
+        return [NO_RUN]
+    row = []
+    for place, stop in enumerate(run.trip.stops):
+        row.extend([stop.office, run.comes[place], run.goes[place]])
+    return with_row([len(run.trip.stops)], row)
+
+
+def call_order(state, numbers):
+    return with_row([len(state.things)], [thing.number for thing in things_in_order(state)])
+
+
+def call_board(state, numbers):
+    stop = numbers[2]
+    run = find_run(state, numbers[0], numbers[1])
+    if run is None:
+        return [NO_RUN]
+    if not goes_from(run, stop):
+        return [OUT_OF_RANGE]
+    row = []
+    for thing, rides in rides_by_things(state):
+        if any([ride.run.key == run.key and ride.first == stop for ride in rides]):
+            row.append(thing.number)
+    return with_row([len(row)], row)
+
+
+def call_runsof(state, numbers):
+    day = numbers[0]
+    if not 0 <= day <= LAST_DAY:
+        return [OUT_OF_RANGE]
+    return with_row([0], [trip.number for trip in state.table.trips if does_run(state, trip, day)])
+
+
+def call_late(state, numbers):
+    thing = find_thing(state, numbers[0])
+    if thing is None:
+        return [NO_THING]
+    way = book_all(state)[thing.number]
+    if thing.promise == NO_PROMISE or way is None:
+        return [NO_LATENESS]
+    return [0, way.ready - thing.promise]
+
+
+def call_counts(state, numbers):
+    return [state.now, len(state.table.trips), len(state.cancelled), state.delays_told, len(state.things)]
+
+
 CALLS = {
     0: call_clear,
     1: call_table,
@@ -172,6 +270,15 @@ CALLS = {
     7: call_bests,
     8: call_latest,
     9: call_post,
+    10: call_withdraw,
+    11: call_booked,
+    12: call_used,
+    13: call_run,
+    14: call_order,
+    15: call_board,
+    16: call_runsof,
+    17: call_late,
+    18: call_counts,
 }
 
 

@@ -6,7 +6,10 @@ from timetable.state import State
 TABLE = 1
 
 # How many whole numbers stand behind each call's own number; table's text has its count ahead instead.
-SIZES = {0: 0, 2: 0, 3: 2, 4: 4, 5: 1, 6: 3, 7: 3, 8: 3, 9: 7}
+SIZES = {
+    0: 0, 2: 0, 3: 2, 4: 4, 5: 1, 6: 3, 7: 3, 8: 3, 9: 7,
+    10: 1, 11: 1, 12: 3, 13: 2, 14: 0, 15: 3, 16: 1, 17: 1, 18: 0,
+}
 
 
 def answers(calls):

@@ -87,7 +87,9 @@ def rides_to_go(state):
     return [ride for ride in all_rides(state) if ride.goes >= state.now]
 
 
-def tell_ride(ride):
-    """The six numbers of a ride."""
-    run = ride.run
-    return [run.trip.number, run.day, ride.first, ride.later, ride.goes, ride.comes]
+def tell_rides(rides):
+    """The six numbers of each ride, one behind another."""
+    told = []
+    for ride in rides:
+        told.extend([ride.run.trip.number, ride.run.day, ride.first, ride.later, ride.goes, ride.comes])
+    return told

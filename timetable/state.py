@@ -2,6 +2,8 @@
 
 from timetable.tables import Table
 
+NO_PROMISE = -1
+
 
 class Thing:
     """A thing to be carried; begun holds, of each begun ride: the run's key, first stop, later stop."""
@@ -14,7 +16,7 @@ class Thing:
         self.amount = amount
         self.rank = rank
         self.ready = ready
-        self.promise = -1
+        self.promise = NO_PROMISE
         self.begun = []
 
 
